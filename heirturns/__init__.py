@@ -1,0 +1,1 @@
+"""Two heirs who take things by turns, whatever they like."""

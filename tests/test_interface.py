@@ -1,0 +1,113 @@
+import ast
+import importlib
+import inspect
+import unittest
+
+# What DOC.md's interface lists: for each file its functions, and for each class
+# its methods, with their parameters; a class value of None is a property.
+FUNCTIONS = {
+    "turns": {
+        "is_runs": "thing",
+        "ahead": "turns number",
+        "turn_of": "turns which",
+        "his_turn_of": "turns which",
+        "first_part": "turns number",
+        "rest_of": "turns number",
+        "backwards": "turns",
+        "swapped": "turns",
+        "heirs": "turns",
+        "turns_of": "heirs_told",
+        "exchanged": "turns place",
+        "handed": "turns place",
+        "check_size": "one other",
+        "corners": "one other",
+    },
+    "texts": {
+        "runs_text": "runs",
+        "list_text": "likes",
+        "share_text": "share",
+        "runs_from": "text",
+        "list_from": "text",
+        "share_from": "text",
+    },
+}
+CLASSES = {
+    "errors": {
+        "HeirError": {},
+        "BadLine": {"__init__": "self number"},
+        "BadRun": {"__init__": "self place"},
+        "BadText": {"__init__": "self piece"},
+        "Known": {"__init__": "self name"},
+        "NoHeir": {"__init__": "self name"},
+        "NoList": {},
+        "NoNumber": {"__init__": "self number"},
+        "NoPlace": {"__init__": "self number"},
+        "NoThing": {"__init__": "self name"},
+        "NoTurns": {"__init__": "self name"},
+        "NothingDone": {},
+        "OtherThings": {},
+    },
+    "turns": {
+        "Turns": {
+            "__init__": "self runs",
+            "of": "text",
+            "runs": None,
+            "size": None,
+            "hers": None,
+            "his": None,
+            "ends": None,
+            "text": None,
+            "__len__": "self",
+            "__getitem__": "self at",
+            "__iter__": "self",
+            "__add__": "self other",
+            "__eq__": "self other",
+        },
+    },
+}
+
+
+def module(name):
+    return importlib.import_module("heirturns." + name)
+
+
+def defined_in(found):
+    """The names that the file itself defines by def or class."""
+    with open(found.__file__, encoding="utf-8") as file:
+        body = ast.parse(file.read()).body
+    return {own.name: own for own in body if isinstance(own, (ast.FunctionDef, ast.ClassDef))}
+
+
+def parameters(function):
+    return " ".join(inspect.signature(function).parameters)
+
+
+class InterfaceTest(unittest.TestCase):
+    def test_functions_stand_in_their_files(self):
+        for name, functions in FUNCTIONS.items():
+            own = defined_in(module(name))
+            for function, told in functions.items():
+                self.assertIsInstance(own.get(function), ast.FunctionDef, function)
+                self.assertEqual(parameters(getattr(module(name), function)), told, function)
+
+    def test_classes_stand_in_their_files_with_their_methods(self):
+        for name, classes in CLASSES.items():
+            own = defined_in(module(name))
+            for class_name, methods in classes.items():
+                self.assertIsInstance(own.get(class_name), ast.ClassDef, class_name)
+                held = vars(getattr(module(name), class_name))
+                for method, told in methods.items():
+                    self.assertIn(method, held, class_name)
+                    if told is None:
+                        self.assertIsInstance(held[method], property)
+                        self.assertIsNone(held[method].fset)
+                    else:
+                        function = getattr(held[method], "__func__", held[method])
+                        self.assertEqual(parameters(function), told, method)
+
+    def test_runs_may_be_left_out(self):
+        self.assertEqual(inspect.signature(module("turns").Turns).parameters["runs"].default, ())
+
+
+if __name__ == "__main__":
+    unittest.main()
