@@ -138,20 +138,16 @@ class FormTest(unittest.TestCase):
 
     def test_names_are_bound_once(self):
         for name in files():
-            bound = []
-            for node in ast.parse(source(name)).body:
-                if isinstance(node, ast.ImportFrom):
-                    bound += [own.name for own in node.names]
-                elif isinstance(node, (ast.FunctionDef, ast.ClassDef)):
-                    bound.append(node.name)
-                elif isinstance(node, ast.Assign):
-                    bound += [target.id for target in node.targets]
+            body = ast.parse(source(name)).body
+            imported = [own.name for node in body if isinstance(node, ast.ImportFrom) for own in node.names]
+            values = [target.id for node in body if isinstance(node, ast.Assign) for target in node.targets]
+            classes = [node.name for node in body if isinstance(node, ast.ClassDef)]
+            functions = [node.name for node in body if isinstance(node, ast.FunctionDef)]
+            bound = imported + values + classes + functions
             self.assertEqual(len(bound), len(set(bound)), name)
             local = {node.id for node in nodes(name) if isinstance(node, ast.Name) and isinstance(node.ctx, ast.Store)}
             local |= {node.arg for node in nodes(name) if isinstance(node, ast.arg)}
-            level = {target.id for node in ast.parse(source(name)).body if isinstance(node, ast.Assign)
-                     for target in node.targets}
-            self.assertEqual((local - level) & set(bound), set(), name)
+            self.assertEqual((local - set(values)) & set(imported + classes), set(), name)
 
 
 if __name__ == "__main__":

@@ -1,5 +1,4 @@
 import unittest
-from itertools import product
 
 from heirturns import turns as turns_file
 from heirturns.errors import BadRun, BadText, NoNumber, NoPlace, OtherThings
@@ -7,7 +6,9 @@ from heirturns.turns import (
     Turns, ahead, backwards, check_size, corners, exchanged, first_part, handed, heirs,
     his_turn_of, is_runs, rest_of, swapped, turn_of, turns_of,
 )
+from tests.calls import Calls, nested
 from tests.examples import check_examples
+from tests.models import GREAT, rows_to
 
 EXAMPLES = r'''
     >>> turns = Turns((("a", 1), ("b", 1), ("b", 1), ("a", 2)))
@@ -33,31 +34,8 @@ EXAMPLES = r'''
     raises OtherThings()
 '''
 
-GREAT = 10 ** 30
 
-
-def rows(most):
-    """All rows of heirs of at most so many turns."""
-    return [row for size in range(most + 1) for row in product("ab", repeat=size)]
-
-
-def nested(depth):
-    """A tuple nested so deep."""
-    thing = ()
-    for _ in range(depth - 1):
-        thing = (thing,)
-    return thing
-
-
-class Asserts(unittest.TestCase):
-    def assert_raises(self, error, values, call, *told, **named):
-        with self.assertRaises(error, msg=(told, named)) as caught:
-            call(*told, **named)
-        self.assertIs(type(caught.exception), error)
-        self.assertEqual(vars(caught.exception), values)
-
-
-class ClassTest(Asserts):
+class ClassTest(Calls):
     def test_examples(self):
         self.assertEqual(check_examples(self, vars(turns_file), EXAMPLES), 10)
 
@@ -83,7 +61,7 @@ class ClassTest(Asserts):
         self.assertEqual(Turns.of(turns.text), turns)
 
     def test_all_short_rows(self):
-        for row in rows(6):
+        for row in rows_to(6):
             turns = Turns([(heir, 1) for heir in row])
             self.assertTrue(is_runs(turns.runs))
             self.assertEqual(turns.size, len(row))
@@ -169,14 +147,14 @@ class ClassTest(Asserts):
         self.assertIs(Turns() == (), False)
 
     def test_sums(self):
-        for one in rows(4):
-            for other in rows(3):
+        for one in rows_to(4):
+            for other in rows_to(3):
                 left, right = turns_of(one), turns_of(other)
                 self.assertEqual(left + right, turns_of(one + other))
                 self.assertEqual((left, right), (turns_of(one), turns_of(other)))
 
 
-class IsRunsTest(Asserts):
+class IsRunsTest(Calls):
     def test_are_runs(self):
         for thing in ((), (("a", 1),), (("b", 10 ** 500),), (("a", 1), ("b", 1), ("a", 1)),
                       tuple(("ab"[at & 1], 10 ** at) for at in range(500))):
@@ -199,15 +177,15 @@ class IsRunsTest(Asserts):
         self.assertIs(is_runs(thing=(("a", 1),)), True)
 
 
-class FunctionsTest(Asserts):
+class FunctionsTest(Calls):
     def test_ahead(self):
-        for row in rows(5):
+        for row in rows_to(5):
             turns = turns_of(row)
             for number in range(-2, 8):
                 self.assertEqual(ahead(turns, number), row[:max(number, 0)].count("a"))
 
     def test_parts(self):
-        for row in rows(5):
+        for row in rows_to(5):
             turns = turns_of(row)
             for number in range(-2, 8):
                 cut = max(number, 0)
@@ -216,7 +194,7 @@ class FunctionsTest(Asserts):
             self.assertEqual(turns, turns_of(row))
 
     def test_turn_of(self):
-        for row in rows(5):
+        for row in rows_to(5):
             turns = turns_of(row)
             for heir, call in (("a", turn_of), ("b", his_turn_of)):
                 own = [at + 1 for at in range(len(row)) if row[at] == heir]
@@ -252,14 +230,14 @@ class FunctionsTest(Asserts):
 
     def test_turned_round_and_swapped(self):
         other = {"a": "b", "b": "a"}
-        for row in rows(6):
+        for row in rows_to(6):
             turns = turns_of(row)
             self.assertEqual(backwards(turns), turns_of(row[::-1]))
             self.assertEqual(swapped(turns), turns_of([other[heir] for heir in row]))
             self.assertEqual(turns, turns_of(row))
 
     def test_heirs(self):
-        for row in rows(6):
+        for row in rows_to(6):
             self.assertEqual(heirs(turns_of(row)), row)
             self.assertEqual(turns_of(row).runs, Turns([(heir, 1) for heir in row]).runs)
         self.assertEqual(heirs(Turns.of("b 40")), ("b",) * 40)
@@ -267,7 +245,7 @@ class FunctionsTest(Asserts):
         self.assertEqual(turns_of(()), Turns())
 
     def test_exchanged(self):
-        for row in rows(5):
+        for row in rows_to(5):
             turns = turns_of(row)
             for place in range(-2, 8):
                 if 1 <= place < len(row):
@@ -278,7 +256,7 @@ class FunctionsTest(Asserts):
             self.assertEqual(turns, turns_of(row))
 
     def test_handed(self):
-        for row in rows(5):
+        for row in rows_to(5):
             turns = turns_of(row)
             for place in range(-2, 8):
                 if 1 <= place <= len(row):
@@ -307,8 +285,8 @@ class FunctionsTest(Asserts):
         self.assertEqual(corners(Turns(), Turns.of("a 2")), (0, 2))
         left, right = Turns([("ab"[at & 1], 10 ** at) for at in range(30)]), Turns([("b", 7 ** 20), ("a", 5 ** 30)])
         self.assertEqual(corners(left, right), tuple(sorted([0, 7 ** 20, 7 ** 20 + 5 ** 30, *left.ends])))
-        for one in rows(4):
-            for other in rows(4):
+        for one in rows_to(4):
+            for other in rows_to(4):
                 left, right = turns_of(one), turns_of(other)
                 self.assertEqual(corners(left, right), tuple(sorted({0, *left.ends, *right.ends})))
 

@@ -1,0 +1,93 @@
+"""What the document says, tried out plainly, for few turns: the tests compare with it."""
+
+from itertools import combinations, permutations, product
+
+from heirturns.turns import Turns, turns_of
+
+NAMES = ("fig", "ash", "elm", "oak", "yew", "bay", "box", "may", "rue", "sloe", "thyme", "zz")
+GREAT = 10 ** 30
+
+
+def rows(size):
+    """All rows of heirs of so many turns, ascending."""
+    return list(product("ab", repeat=size))
+
+
+def rows_to(most):
+    """All rows of heirs of at most so many turns."""
+    return [row for size in range(most + 1) for row in rows(size)]
+
+
+def lists(size):
+    """All lists of the first so many names."""
+    return list(permutations(NAMES[:size]))
+
+
+def subsets(names):
+    """All sets of these names."""
+    return [tuple(sorted(chosen)) for many in range(len(names) + 1) for chosen in combinations(names, many)]
+
+
+def times(turns, factor):
+    """The Turns with so many times as many turns in each run."""
+    return Turns([(heir, many * factor) for heir, many in turns.runs])
+
+
+def places_of(row, heir):
+    """The numbers of the turns of this heir."""
+    return [at + 1 for at, own in enumerate(row) if own == heir]
+
+
+def plain_taken(row, hers, his):
+    """What is taken plainly, turn by turn."""
+    left = list(hers)
+    found = []
+    for heir in row:
+        name = min(left, key=(hers if heir == "a" else his).index)
+        left.remove(name)
+        found.append(name)
+    return tuple(found)
+
+
+def plain_share(row, hers, his, heir="a"):
+    """The set of what the heir takes plainly."""
+    return tuple(sorted(name for own, name in zip(row, plain_taken(row, hers, his)) if own == heir))
+
+
+def best_first(order, share):
+    """The things of the share, the best one by the list first."""
+    return sorted(share, key=order.index)
+
+
+def is_worse(order, one, other):
+    """The least k at which the one share is worse by the list than the other one, or None."""
+    left, right = best_first(order, one), best_first(order, other)
+    for at, name in enumerate(right):
+        if at >= len(left) or order.index(left[at]) > order.index(name):
+            return at + 1
+    return None
+
+
+def plain_lost(row, his, wanted):
+    """At which turn of hers what she wants is gone, if he takes plainly, or None."""
+    left = list(his)
+    waiting = list(wanted)
+    for heir in row:
+        if heir == "b":
+            left.pop(0)
+        elif waiting[0] not in left:
+            return len(wanted) - len(waiting) + 1
+        else:
+            left.remove(waiting.pop(0))
+    return None
+
+
+def plain_orders(row, his, share):
+    """All orders in which she gets the whole share."""
+    if len(share) != row.count("a"):
+        return []
+    return [order for order in permutations(share) if plain_lost(row, his, order) is None]
+
+
+def turns_and_rows(size):
+    return [(row, turns_of(row)) for row in rows(size)]
