@@ -103,9 +103,10 @@ def is_steps(one, other, thing):
     if not isinstance(thing, tuple) or not all([_is_word_and_number(pair) for pair in thing]):
         return False
     try:
-        return after(other, thing) == one
+        behind = after(other, thing)
     except NoPlace:
         return False
+    return behind == one
 
 
 def _is_word_and_number(thing):

@@ -91,3 +91,24 @@ def plain_orders(row, his, share):
 
 def turns_and_rows(size):
     return [(row, turns_of(row)) for row in rows(size)]
+
+
+def takes_tried_out(row, his):
+    """All shares that she can take, by all orders in which she may want things."""
+    return [share for share in subsets(his) if plain_orders(row, his, share)]
+
+
+def plain_worse_numbers(order, one, other):
+    """The numbers k for which the k-th best thing is worse in the one share than in the other one."""
+    both = zip(best_first(order, one), best_first(order, other))
+    return tuple(at + 1 for at, (mine, yours) in enumerate(both) if order.index(mine) > order.index(yours))
+
+
+def beginnings(row):
+    """How many turns of hers each beginning has."""
+    return [row[:end].count("a") for end in range(len(row) + 1)]
+
+
+def is_row_above(one, other):
+    """Whether each beginning of one has at least as many turns of hers."""
+    return all(mine >= yours for mine, yours in zip(beginnings(one), beginnings(other)))

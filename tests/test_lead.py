@@ -10,7 +10,7 @@ from heirturns.picks import kth_best, shares
 from heirturns.turns import Turns, exchanged, handed, swapped, turns_of
 from tests.calls import Calls, nested
 from tests.examples import check_examples
-from tests.models import GREAT, NAMES, is_worse, lists, places_of, plain_share, rows, times
+from tests.models import GREAT, NAMES, is_row_above, is_worse, lists, places_of, plain_share, rows, times
 
 EXAMPLES = r'''
     >>> one, other = Turns.of("a 1; b 2; a 1"), Turns.of("b 1; a 2; b 1")
@@ -52,10 +52,6 @@ def pairs(size):
     return list(product(rows(size), repeat=2))
 
 
-def is_never_worse_in_beginnings(one, other):
-    return all(one[:end].count("a") >= other[:end].count("a") for end in range(len(one) + 1))
-
-
 def one_step_on(row):
     """What one step makes of the row, by step."""
     found = {}
@@ -90,7 +86,7 @@ class NeverWorseTest(Calls):
                          if is_worse(hers, plain_share(one, hers, his), plain_share(other, hers, his))]
                 left, right = turns_of(one), turns_of(other)
                 self.assertIs(never_worse(left, right), worse == [])
-                self.assertIs(never_worse(left, right), is_never_worse_in_beginnings(one, other))
+                self.assertIs(never_worse(left, right), is_row_above(one, other))
 
     def test_all_lists_of_four_things(self):
         hers = NAMES[:4]
@@ -109,13 +105,13 @@ class NeverWorseTest(Calls):
     def test_beginnings(self):
         for size in range(7):
             for one, other in pairs(size):
-                self.assertIs(never_worse(turns_of(one), turns_of(other)), is_never_worse_in_beginnings(one, other))
+                self.assertIs(never_worse(turns_of(one), turns_of(other)), is_row_above(one, other))
 
     def test_compare(self):
         words = {(True, True): "alike", (True, False): "better", (False, True): "worse", (False, False): "apart"}
         for size in range(6):
             for one, other in pairs(size):
-                both = is_never_worse_in_beginnings(one, other), is_never_worse_in_beginnings(other, one)
+                both = is_row_above(one, other), is_row_above(other, one)
                 self.assertEqual(compare(turns_of(one), turns_of(other)), words[both])
                 self.assertEqual(both == (True, True), one == other)
 

@@ -12,7 +12,7 @@ from heirturns.takes import (
 from heirturns.turns import Turns, backwards, turns_of
 from tests.calls import Calls, nested
 from tests.examples import check_examples
-from tests.models import GREAT, NAMES, best_first, places_of, plain_lost, plain_orders, rows_to, subsets
+from tests.models import GREAT, NAMES, best_first, places_of, plain_lost, plain_orders, rows_to, subsets, takes_tried_out
 
 EXAMPLES = r'''
     >>> turns, his = Turns.of("a 1; b 2; a 1"), ("w", "x", "y", "z")
@@ -37,11 +37,6 @@ EXAMPLES = r'''
 def told_rows(most):
     """All rows to so many turns, and a list of his that does not ascend."""
     return [(row, turns_of(row), NAMES[:len(row)]) for row in rows_to(most)]
-
-
-def takes_tried_out(row, his):
-    """All shares that she can take, by all orders in which she may want things."""
-    return [share for share in subsets(his) if plain_orders(row, his, share)]
 
 
 class TakesTest(Calls):
