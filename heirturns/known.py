@@ -1,7 +1,7 @@
 """What becomes of the things if both heirs know both lists and play well."""
 
 from heirturns.best import worse_numbers
-from heirturns.picks import both_sets, check_lists, check_things, shares
+from heirturns.picks import both_sets, check_lists, check_things, shares, without
 from heirturns.turns import heirs, rest_of
 
 
@@ -24,12 +24,8 @@ def shares_behind(turns, hers, his, name):
     """This pair if the first heir takes this thing; raises OtherThings(), NoThing(name)."""
     check_lists(turns, hers, his)
     check_things(hers, (name,))
-    then = played(rest_of(turns, 1), _without(hers, name), _without(his, name))
+    then = played(rest_of(turns, 1), without(hers, name), without(his, name))
     return both_sets(turns, (name,) + then)
-
-
-def _without(order, name):
-    return [other for other in order if other != name]
 
 
 def good_takings(turns, hers, his):

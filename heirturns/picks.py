@@ -53,6 +53,11 @@ def first_left(order, gone):
     return [name for name in order if name not in gone][0]
 
 
+def without(order, name):
+    """All things of the list but this one."""
+    return tuple([other for other in order if other != name])
+
+
 def shares(turns, hers, his):
     """The pair of her share and his; raises OtherThings()."""
     return both_sets(turns, taken(turns, hers, his))
@@ -61,10 +66,11 @@ def shares(turns, hers, his):
 def both_sets(turns, names):
     """The pair of the sets of what she has and he has of these, taken turn by turn."""
     row = heirs(turns)
-    return _set_of("a", row, names), _set_of("b", row, names)
+    return set_of("a", row, names), set_of("b", row, names)
 
 
-def _set_of(who, row, names):
+def set_of(who, row, names):
+    """The set of what this heir of the row has of these, taken turn by turn."""
     return tuple(sorted([name for heir, name in zip(row, names) if heir == who]))
 
 

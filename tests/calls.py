@@ -54,3 +54,29 @@ class Calls(unittest.TestCase):
         self.assert_raises(error, values, call, *named.values())
         self.assert_raises(error, values, call, **with_lists)
         self.assertEqual((named, with_lists), stayed)
+
+    def assert_no_setters(self, thing, names):
+        """None of these properties can be set."""
+        for name in names:
+            with self.assertRaises(AttributeError, msg=name):
+                setattr(thing, name, getattr(thing, name))
+
+    def assert_no_iteration(self, thing):
+        for call in (iter, list, tuple, sorted):
+            with self.assertRaises(TypeError):
+                call(thing)
+
+    def assert_unlike(self, thing, others):
+        """The thing is equal to itself and to none of the others, by == and by !=."""
+        self.assertIs(thing == thing, True)
+        self.assertIs(thing != thing, False)
+        for other in others:
+            self.assertIs(thing == other, False, other)
+            self.assertIs(thing != other, True, other)
+            self.assertIs(other == thing, False, other)
+            self.assertIs(other != thing, True, other)
+
+    def assert_like(self, one, other):
+        self.assertIs(one == other, True)
+        self.assertIs(one != other, False)
+        self.assertIs(other == one, True)

@@ -6,6 +6,28 @@ from heirturns.turns import Turns, turns_of
 
 NAMES = ("fig", "ash", "elm", "oak", "yew", "bay", "box", "may", "rue", "sloe", "thyme", "zz")
 GREAT = 10 ** 30
+THREE, FOUR = ("fig", "ash", "elm"), ("fig", "ash", "elm", "oak")
+
+# Turns and lists that do not go together.
+UNFIT = tuple(
+    {"turns": Turns(runs), "hers": hers, "his": his}
+    for runs, hers, his in (
+        ((("a", 1), ("b", 1), ("a", 1)), THREE, ("fig", "ash", "oak")),
+        ((("a", 1), ("b", 1), ("a", 1)), THREE, THREE[:2]),
+        ((("a", 1), ("b", 1), ("a", 1)), THREE[:2], THREE),
+        ((("a", 1), ("b", 1), ("a", 1)), THREE[:2], THREE[:2]),
+        ((("a", 1), ("b", 1), ("a", 1)), FOUR, FOUR),
+        ((("a", 1), ("b", 1), ("a", 1)), THREE, FOUR),
+        ((("a", 1), ("b", 1), ("a", 1)), FOUR, THREE),
+        ((("a", 1), ("b", 1), ("a", 1)), (), ()),
+        ((("a", 1),), ("fig",), ("ash",)),
+        ((("b", 1),), (), ()),
+        ((), ("fig",), ("fig",)),
+        ((), (), ("fig",)),
+        ((), ("fig",), ()),
+        ((("a", GREAT), ("b", GREAT)), THREE, THREE),
+    )
+)
 
 
 def rows(size):

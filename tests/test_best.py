@@ -9,7 +9,7 @@ from heirturns.turns import Turns, turns_of
 from tests.calls import Calls
 from tests.examples import check_examples
 from tests.models import (
-    GREAT, NAMES, best_first, is_worse, lists, plain_lost, plain_share, plain_worse_numbers, rows_to, subsets,
+    NAMES, UNFIT, best_first, is_worse, lists, plain_lost, plain_share, plain_worse_numbers, rows_to, subsets,
     takes_tried_out,
 )
 
@@ -103,18 +103,11 @@ class BestTest(Calls):
         self.assert_gives((), worse_places, **alike)
 
     def test_other_things_ahead_of_all_else(self):
-        turns = Turns.of("a 1; b 1; a 1")
-        three, four = ("fig", "ash", "elm"), ("fig", "ash", "elm", "oak")
-        great = Turns((("a", GREAT), ("b", GREAT)))
-        for own, hers, his in (
-            (turns, three, ("fig", "ash", "oak")), (turns, three, three[:2]), (turns, three[:2], three),
-            (turns, three[:2], three[:2]), (turns, four, four), (turns, three, four), (turns, four, three),
-            (turns, (), ()), (Turns(), ("fig",), ("fig",)), (Turns(), (), ("fig",)), (great, three, three),
-        ):
+        for told in UNFIT:
             for call in CALLS:
-                self.assert_refuses(OtherThings, {}, call, turns=own, hers=hers, his=his)
+                self.assert_refuses(OtherThings, {}, call, **told)
             for share in ((), ("fig",), ("zz",)):
-                self.assert_refuses(OtherThings, {}, is_best_share, turns=own, hers=hers, his=his, share=share)
+                self.assert_refuses(OtherThings, {}, is_best_share, **told, share=share)
 
 
 if __name__ == "__main__":

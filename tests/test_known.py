@@ -8,7 +8,7 @@ from heirturns.takes import can_take
 from heirturns.turns import Turns, turns_of
 from tests.calls import Calls
 from tests.examples import check_examples
-from tests.models import GREAT, NAMES, is_worse, lists, plain_share, plain_taken, plain_worse_numbers, rows_to
+from tests.models import NAMES, UNFIT, is_worse, lists, plain_share, plain_taken, plain_worse_numbers, rows_to
 
 EXAMPLES = r'''
     >>> turns, hers, his = turns_of(("a", "b", "a")), ("x", "y", "z"), ("y", "z", "x")
@@ -138,18 +138,11 @@ class KnownTest(Calls):
             self.assert_refuses(NoThing, {"name": name}, shares_behind, **told, name=name)
 
     def test_other_things_ahead_of_all_else(self):
-        turns = Turns.of("a 1; b 1; a 1")
-        three, four = ("fig", "ash", "elm"), ("fig", "ash", "elm", "oak")
-        great = Turns((("a", GREAT), ("b", GREAT)))
-        for own, hers, his in (
-            (turns, three, ("fig", "ash", "oak")), (turns, three, three[:2]), (turns, three[:2], three),
-            (turns, three[:2], three[:2]), (turns, four, four), (turns, three, four), (turns, four, three),
-            (turns, (), ()), (Turns(), ("fig",), ("fig",)), (Turns(), (), ("fig",)), (great, three, three),
-        ):
+        for told in UNFIT:
             for call in (played, played_shares, good_takings, gains):
-                self.assert_refuses(OtherThings, {}, call, turns=own, hers=hers, his=his)
+                self.assert_refuses(OtherThings, {}, call, **told)
             for name in ("fig", "zz"):
-                self.assert_refuses(OtherThings, {}, shares_behind, turns=own, hers=hers, his=his, name=name)
+                self.assert_refuses(OtherThings, {}, shares_behind, **told, name=name)
 
 
 if __name__ == "__main__":

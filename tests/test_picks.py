@@ -8,9 +8,7 @@ from heirturns.picks import (
 from heirturns.turns import Turns, turns_of
 from tests.calls import Calls, nested
 from tests.examples import check_examples
-from tests.models import (
-    GREAT, NAMES, best_first, lists, plain_share, plain_taken, subsets, turns_and_rows,
-)
+from tests.models import GREAT, NAMES, UNFIT, best_first, lists, plain_share, plain_taken, subsets, turns_and_rows
 
 EXAMPLES = r'''
     >>> turns = Turns((("a", 1), ("b", 2), ("a", 1)))
@@ -97,19 +95,11 @@ class TakenTest(Calls):
         self.assert_gives(("ash", "elm"), left_behind, **told, number=2)
 
     def test_other_things_ahead_of_all_else(self):
-        turns = Turns.of("a 1; b 1; a 1")
-        three, four = ("fig", "ash", "elm"), ("fig", "ash", "elm", "oak")
-        great = Turns((("a", GREAT), ("b", GREAT)))
-        for own, hers, his in (
-            (turns, three, ("fig", "ash", "oak")), (turns, three, three[:2]), (turns, three[:2], three),
-            (turns, three[:2], three[:2]), (turns, four, four), (turns, three, four), (turns, four, three),
-            (turns, (), ()), (Turns(), ("fig",), ("fig",)), (Turns(), (), ("fig",)), (Turns(), ("fig",), ()),
-            (great, three, three),
-        ):
+        for told in UNFIT:
             for call in (taken, shares, story):
-                self.assert_refuses(OtherThings, {}, call, turns=own, hers=hers, his=his)
+                self.assert_refuses(OtherThings, {}, call, **told)
             for number in (-1, 0, 2, GREAT):
-                self.assert_refuses(OtherThings, {}, left_behind, turns=own, hers=hers, his=his, number=number)
+                self.assert_refuses(OtherThings, {}, left_behind, **told, number=number)
 
 
 class KindsTest(Calls):
