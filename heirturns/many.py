@@ -101,7 +101,7 @@ def order_among(row, lists, heir, share):
     order = _list_of(lists, heir)
     _check_row(row, lists)
     check_things(order, share)
-    if len(share) != list(row).count(heir):
+    if len(share) != row.count(heir):
         return None
     wanted = _soonest_first(row, lists, heir, share)
     return wanted if is_order_among(row, lists, heir, wanted) else None
@@ -126,7 +126,7 @@ def is_order_among(row, lists, heir, thing):
     """Whether thing is an order in which the heir can take things; raises NoHeir(name), OtherThings()."""
     order = _list_of(lists, heir)
     _check_row(row, lists)
-    if not isinstance(thing, tuple) or len(thing) != list(row).count(heir):
+    if not isinstance(thing, tuple) or len(thing) != row.count(heir):
         return False
     return all([name in order for name in thing]) and _can_take_so(row, lists, heir, thing)
 

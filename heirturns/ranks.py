@@ -1,8 +1,9 @@
 """Several rows of turns, each with a name: which stand above which."""
 
-from heirturns.errors import Known, NoTurns
+from heirturns.errors import Known
 from heirturns.lattice import above_both, below_both
 from heirturns.lead import never_worse
+from heirturns.named import check_named, names_of, turns_named
 from heirturns.turns import check_size
 
 
@@ -17,7 +18,7 @@ class Table:
     @property
     def names(self):
         """The set of the names."""
-        return tuple([name for name, turns in self._rows])
+        return names_of(self._rows)
 
     def __len__(self):
         return len(self._rows)
@@ -27,10 +28,7 @@ class Table:
 
     def __getitem__(self, name):
         """The Turns with this name; raises NoTurns(name)."""
-        for own, turns in self._rows:
-            if own == name:
-                return turns
-        raise NoTurns(name)
+        return turns_named(self._rows, name)
 
     def __iter__(self):
         # Without this, Python would iterate by __getitem__.
@@ -49,18 +47,13 @@ class Table:
 
     def below(self, name):
         """The set of the names below this one; raises NoTurns(name)."""
-        self._check(name)
+        check_named(self._rows, name)
         return tuple([other for one, other in self._pairs if one == name])
 
     def above(self, name):
         """The set of the names above this one; raises NoTurns(name)."""
-        self._check(name)
+        check_named(self._rows, name)
         return tuple([one for one, other in self._pairs if other == name])
-
-    def _check(self, name):
-        """Raises NoTurns(name) if there is none."""
-        if name not in self:
-            raise NoTurns(name)
 
     def next_below(self, name):
         """The set of the names below this one with none between; raises NoTurns(name)."""

@@ -30,7 +30,7 @@ def runs_from(text):
     runs = []
     for at, piece in enumerate(_pieces(text, RUN_SIGN)):
         heir, digits = piece[:1], piece[2:]
-        if not is_heir(heir) or piece[1:2] != " " or not _is_many(digits):
+        if not is_heir(heir) or piece[1:2] != " " or not is_many(digits):
             raise BadText(at)
         if runs and runs[-1][0] == heir:
             raise BadText(at)
@@ -64,7 +64,7 @@ def _pieces(text, sign):
     return [] if text == NOTHING else text.split(sign)
 
 
-def _is_many(digits):
+def is_many(digits):
     """Whether these are the digits of a number from 1, without a needless 0."""
     # Not isdigit and int: both take digits that are not 0 to 9, int signs too.
     return digits[:1] not in ("", "0") and all([digit in DIGITS for digit in digits])

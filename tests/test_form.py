@@ -101,7 +101,16 @@ class FormTest(unittest.TestCase):
                 allowed = (ast.ImportFrom, ast.FunctionDef, ast.ClassDef, ast.Assign)
                 self.assertTrue(is_docstring or isinstance(node, allowed), (name, node.lineno))
                 if isinstance(node, ast.Assign):
-                    ast.literal_eval(node.value)
+                    self.check_plain_value(node.value, name)
+
+    def check_plain_value(self, value, name):
+        """A literal, or a table of functions that are defined above."""
+        if isinstance(value, ast.Dict) and all(isinstance(own, ast.Name) for own in value.values):
+            above = {node.name for node in ast.parse(source(name)).body
+                     if isinstance(node, ast.FunctionDef) and node.lineno < value.lineno}
+            self.assertLessEqual({own.id for own in value.values}, above, name)
+            value = ast.Tuple(value.keys, ast.Load())
+        ast.literal_eval(value)
 
     def test_statements_and_expressions(self):
         for name in files():

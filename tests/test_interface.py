@@ -141,6 +141,30 @@ FUNCTIONS = {
         "can_take_among": "row lists heir share",
         "is_order_among": "row lists heir thing",
     },
+    "ranks": {},
+    "chances": {
+        "chance_of_share": "turns hers share",
+        "chance_of": "turns hers name",
+        "all_chances": "turns hers",
+        "expected_places": "turns hers",
+        "likeliest_share": "turns hers",
+    },
+    "prices": {
+        "is_prices": "thing",
+        "worth": "prices share",
+        "keeps": "prices order",
+        "most_taken_share": "turns his prices",
+        "most_taken": "turns his prices",
+        "least_come": "turns hers prices",
+        "most_come": "turns hers prices",
+        "prices_against": "order one other",
+        "never_worth_less": "order one other",
+        "is_prices_against": "order one other thing",
+        "least_come_share": "turns hers prices",
+        "most_come_share": "turns hers prices",
+    },
+    "board": {},
+    "desk": {"answers": "text"},
     "texts": {
         "runs_text": "runs",
         "list_text": "likes",
@@ -243,6 +267,32 @@ CLASSES = {
             "__eq__": "self other",
         },
     },
+    "board": {
+        "Board": {
+            "__init__": "self",
+            "names": None,
+            "hers": None,
+            "his": None,
+            "deeds": None,
+            "put": "self name turns",
+            "drop": "self name",
+            "rename": "self name new",
+            "add": "self name place heir number",
+            "remove": "self name place number",
+            "exchange": "self name place",
+            "like": "self heir likes",
+            "undo": "self",
+            "twin": "self",
+            "shares": "self name",
+            "never_worse": "self name to",
+            "best_for_her": "self number",
+            "__len__": "self",
+            "__contains__": "self name",
+            "__getitem__": "self name",
+            "__iter__": "self",
+            "__eq__": "self other",
+        },
+    },
 }
 
 
@@ -283,6 +333,14 @@ class InterfaceTest(unittest.TestCase):
                     else:
                         function = getattr(held[method], "__func__", held[method])
                         self.assertEqual(parameters(function), told, method)
+
+    def test_everything_that_the_document_lists(self):
+        """All files, and in all of them as many functions and classes as the document lists."""
+        self.assertEqual(sorted({*FUNCTIONS, *CLASSES}), sorted(
+            "errors turns picks lead shares takes best known lattice fair hidden changes many ranks chances prices"
+            " texts board desk".split()))
+        self.assertEqual(sum(len(functions) for functions in FUNCTIONS.values()), 135)
+        self.assertEqual(sum(len(classes) for classes in CLASSES.values()), 18)
 
     def test_runs_may_be_left_out(self):
         self.assertEqual(inspect.signature(module("turns").Turns).parameters["runs"].default, ())

@@ -185,6 +185,8 @@ class AsOneTest(Calls):
                           lists=alike, one="a", other="b")
         self.assert_gives((("b", "c"), (("b", ("fig", "ash")), ("c", ("ash", "fig")))), as_one, row=("a", "c"),
                           lists=alike, one="b", other="a")
+        mixed = (("a", ["fig", "ash"]), ["b", ("fig", "ash")], ("c", ("ash", "fig")))
+        self.assertEqual(as_one(["a", "b"], mixed, "a", "b"), as_one(("a", "b"), alike, "a", "b"))
         for own in "abc":
             self.assert_gives((("a", "b"), alike), as_one, row=("a", "b"), lists=alike, one=own, other=own)
         self.assert_gives(((), (("b", ()),)), as_one, row=(), lists=(("a", ()), ("b", ())), one="b", other="a")

@@ -1,6 +1,5 @@
 import random
 import unittest
-from itertools import permutations
 
 from heirturns import ranks as ranks_file, turns as turns_file
 from heirturns.errors import Known, NoTurns, OtherThings
@@ -60,8 +59,10 @@ def longest(found):
 
 def chains(pairs, names):
     """All tuples of names, each above the next one."""
-    return [order for share in subsets(names) for order in permutations(share)
-            if all(pair in pairs for pair in zip(order, order[1:]))]
+    found = [()] + [(name,) for name in names]
+    for own in found:
+        found += [own + (other,) for other in names if own and (own[-1], other) in pairs]
+    return found
 
 
 def bound(row_sets, join):
@@ -115,6 +116,13 @@ class TableTest(Calls):
             left -= set(layers[-1])
         self.assertEqual(table.layers(), layers)
         self.assertEqual(len(layers), len(table.chain()))
+
+    def test_more_names(self):
+        rng = random.Random(4)
+        for turn in range(40):
+            words = rng.sample(["aabb", "abab", "abba", "baab", "baba", "bbaa", "aaab", "abbb", "bbab", "babb"], 8)
+            rows = dict(zip(rng.sample("abcdefghijkl", 8), [tuple(word) for word in words]))
+            self.check_sets(table_of(rows), rows, pairs_of(rows), tuple(sorted(rows)))
 
     def test_bounds(self):
         for rows in tables(random.Random(2), 60):
