@@ -136,10 +136,11 @@ class Watch:
 
     def _become(self, turns, hers, his):
         """Does the deed by which all three become these; returns her share."""
+        share = _her_share(turns, hers, his)
         self._past.append(self._now)
         self._now = (turns, hers, his)
-        self._told.append(_her_share(turns, hers, his))
-        return self.share
+        self._told.append(share)
+        return share
 
     def back(self):
         """Takes the last deed back; raises NothingDone()."""

@@ -115,7 +115,7 @@ def _soonest_first(row, lists, heir, share):
     passed = []
     for own in row:
         if own != heir:
-            # While nothing of the share is taken, what else is taken is always the same.
+            # As long as others take nothing of the share, the other things that they take are always the same.
             left = [name for name in _list_of(lists, own) if name not in passed]
             at = [name in share for name in left].index(False)
             passed = passed + left[:at + 1]

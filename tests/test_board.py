@@ -168,8 +168,7 @@ class BoardTest(BoardCalls):
                 else:
                     self.assert_raises(*behind, do, board, *deed)
                 self.check_board(board, models[-1], len(models) - 1)
-                if rng.random() < 0.3:
-                    self.check_questions(board, models[-1])
+                self.check_questions(board, models[-1])
                 if rng.random() < 0.15 and len(models) > 1:
                     self.assertIsNone(board.undo())
                     models.pop()
